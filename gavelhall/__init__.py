@@ -1,0 +1,1 @@
+"""Gavelhall: a hall of bundles."""

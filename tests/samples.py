@@ -1,0 +1,60 @@
+"""What several test files share."""
+
+from gavelhall import errors
+
+
+class Stranger:
+    """Something that has nothing to do with numbers and can't be compared or shown."""
+
+    def __eq__(self, other):
+        raise RuntimeError("compared")
+
+    def __repr__(self):
+        raise RuntimeError("shown")
+
+    __hash__ = None
+
+
+# (what it is, the thing): none of these is a whole number.
+NO_WHOLES = [
+    ("True", True),
+    ("False", False),
+    ("None", None),
+    ("the text without signs", ""),
+    ("a text of figures", "7"),
+    ("a text of a ratio", "1/2"),
+    ("bytes", b"7"),
+    ("the tuple of nothing", ()),
+    ("a tuple of one", (1,)),
+    ("a ratio", (1, 2)),
+    ("a whole ratio", (3, 1)),
+    ("the list of nothing", []),
+    ("a list", [1]),
+    ("a list of two", [1, 2]),
+    ("a dict", {1: 2}),
+    ("a set", {1}),
+    ("a range", range(3)),
+    ("the class int", int),
+    ("a function", abs),
+    ("an error", ValueError("7")),
+    ("a stranger", Stranger()),
+]
+
+# The refusals that stand right under HallError.
+REFUSALS = [
+    errors.NoNumber,
+    errors.NoBundle,
+    errors.NoBid,
+    errors.NoText,
+    errors.NoName,
+    errors.NoRow,
+    errors.NoPaper,
+    errors.TooMany,
+    errors.BadStep,
+    errors.TooLate,
+]
+
+
+def same(case, told, asked):
+    """Equal, and of the same kinds all through: 1 and True are not the same here."""
+    case.assertEqual(repr(told), repr(asked))
