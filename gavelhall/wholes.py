@@ -14,3 +14,7 @@ def divisor(one, other):
         greater = lesser
         lesser = rest
     return greater
+
+
+def is_within(thing, least, most):
+    return is_whole(thing) and least <= thing <= most

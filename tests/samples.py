@@ -40,6 +40,35 @@ NO_WHOLES = [
     ("a stranger", Stranger()),
 ]
 
+# (what it is, the thing): none of these is one to eight small letters.
+NO_NAMES = [
+    ("no signs", ""),
+    ("nine letters", "abcdefghi"),
+    ("many letters", "a" * 2000),
+    ("a great letter", "A"),
+    ("a great letter behind", "abC"),
+    ("a figure", "7"),
+    ("a figure behind", "ab7"),
+    ("a blank", " "),
+    ("a blank ahead", " ab"),
+    ("a blank behind", "ab "),
+    ("a blank between", "a b"),
+    ("a tab", "a\tb"),
+    ("a line end", "ab\n"),
+    ("a line end alone", "\n"),
+    ("an underscore", "a_b"),
+    ("a plus", "a+b"),
+    ("a minus", "-"),
+    ("the sign ahead of a", "`"),
+    ("the sign behind z", "z{"),
+    ("a number", 7),
+    ("nought", 0),
+    ("a list of a name", ["ab"]),
+    ("a tuple of a name", ("ab",)),
+    ("a tuple of a name and a kind", ("ab", "ab")),
+    ("a dict of a name", {"ab": 0}),
+] + [(what, thing) for what, thing in NO_WHOLES if not isinstance(thing, str)]
+
 # The refusals that stand right under HallError.
 REFUSALS = [
     errors.NoNumber,
@@ -58,3 +87,13 @@ REFUSALS = [
 def same(case, told, asked):
     """Equal, and of the same kinds all through: 1 and True are not the same here."""
     case.assertEqual(repr(told), repr(asked))
+
+
+def refused(case, kind, call, *handed):
+    """The refusal, which is of this kind and of none of the others."""
+    with case.assertRaises(errors.HallError) as taken:
+        call(*handed)
+    case.assertIsInstance(taken.exception, ValueError)
+    for one in REFUSALS:
+        case.assertEqual(isinstance(taken.exception, one), one is kind)
+    return taken.exception

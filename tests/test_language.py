@@ -1,7 +1,7 @@
 """The rules of the language that can be told from a file's text and tree, for every file of the package.
 
-It looks at L1 to L8, L10, L12, L14, L16, L17, L20, L25 and L27, each in its main parts; the other
-rules, and what is left of these, are for the writer to keep.
+It looks at L1 to L8, L10, L12, L14, L16, L17, L20, L25 and L27, each in its main parts, and
+test_language_names.py at others; what is left is for the writer to keep.
 """
 
 import ast

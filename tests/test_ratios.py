@@ -4,9 +4,9 @@ import math
 import unittest
 from fractions import Fraction
 
-from gavelhall.errors import HallError, NoNumber
+from gavelhall.errors import NoNumber
 from gavelhall.ratios import is_ratio, minus, plus, ratio_of, times, total_of, under, whole_and_rest, written
-from tests.samples import NO_WHOLES, REFUSALS, same
+from tests.samples import NO_WHOLES, refused, same
 
 # Lowest or not, on both sides of nought, whole ones, and ones as long as may be handed in.
 RATIOS = [
@@ -99,33 +99,26 @@ class RatioOf(unittest.TestCase):
         same(self, ratio_of(top=2, bottom=4), (1, 2))
         same(self, ratio_of(top=2), (2, 1))
 
-    def refused(self, top, bottom):
-        with self.assertRaises(HallError) as taken:
-            ratio_of(top, bottom)
-        for one in REFUSALS:
-            self.assertEqual(isinstance(taken.exception, one), one is NoNumber)
-
     def test_a_bottom_of_nought(self):
         for top in (0, 1, -1, 5, 10 ** 120):
             with self.subTest(top):
-                self.refused(top, 0)
+                refused(self, NoNumber, ratio_of, top, 0)
 
     def test_what_is_no_whole_number_at_either_place(self):
         for what, thing in NO_WHOLES:
             with self.subTest(what):
-                self.refused(thing, 1)
-                self.refused(thing, -2)
-                self.refused(thing, 0)
-                self.refused(1, thing)
-                self.refused(0, thing)
-                self.refused(thing, thing)
-                with self.assertRaises(NoNumber):
-                    ratio_of(thing)
+                refused(self, NoNumber, ratio_of, thing, 1)
+                refused(self, NoNumber, ratio_of, thing, -2)
+                refused(self, NoNumber, ratio_of, thing, 0)
+                refused(self, NoNumber, ratio_of, 1, thing)
+                refused(self, NoNumber, ratio_of, 0, thing)
+                refused(self, NoNumber, ratio_of, thing, thing)
+                refused(self, NoNumber, ratio_of, thing)
 
     def test_once_it_is_made_good_it_is_taken(self):
         handed = [2, 0]
-        self.refused(handed, 4)
-        self.refused(handed[0], handed[1])
+        refused(self, NoNumber, ratio_of, handed, 4)
+        refused(self, NoNumber, ratio_of, handed[0], handed[1])
         self.assertEqual(handed, [2, 0])
         handed[1] = 4
         same(self, ratio_of(handed[0], handed[1]), (1, 2))

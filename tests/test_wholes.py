@@ -3,7 +3,7 @@
 import math
 import unittest
 
-from gavelhall.wholes import divisor, is_whole
+from gavelhall.wholes import divisor, is_whole, is_within
 from tests.samples import NO_WHOLES, same
 
 
@@ -25,6 +25,18 @@ class IsWhole(unittest.TestCase):
         handed = [1, 2]
         self.assertIs(is_whole(handed), False)
         self.assertEqual(handed, [1, 2])
+
+
+class IsWithin(unittest.TestCase):
+    def test_both_bounds_belong_to_it(self):
+        for one, asked in ((0, False), (1, True), (2, True), (6, True), (7, False), (-1, False), (10 ** 299, False)):
+            with self.subTest(one):
+                self.assertIs(is_within(one, 1, 6), asked)
+
+    def test_what_is_no_whole_number_lies_nowhere(self):
+        for what, thing in NO_WHOLES:
+            with self.subTest(what):
+                self.assertIs(is_within(thing, 0, 6), False)
 
 
 class Divisor(unittest.TestCase):
