@@ -421,6 +421,22 @@ class Words(unittest.TestCase):
         same(self, OneOf([UpTo(63, 2, 5)]).words(odd), "one(up to 2 of " + "+".join(odd) + " for 5 each)")
         same(self, Only(1, 5).words(["x" * 5000]), "x" * 5000 + " for 5")
 
+    def test_names_that_begin_one_another_or_are_words_of_the_texts(self):
+        for names in (
+            ["a", "ab", "abc", "abcd", "b", "bc"], ["abc", "ab", "a", "aa", "aaa", "aaaa"],
+            ["up", "to", "of", "for", "each", "any"], ["one", "nothing", "each", "up", "up", "one"],
+            ["nothing"] * 6, ["for"] * 9, ["a", "a", "b", "b", "a", "a", "more", "a"],
+        ):
+            both = names[0] + "+" + names[5]
+            bid = OneOf([Bid(), AnyOf([Only(33, 5), SoMany(6, 2, 0), OneOf([])]), UpTo(63, 3, MOST)])
+            with self.subTest(names):
+                same(self, Only(33, 5).words(names), both + " for 5")
+                same(self, SoMany(33, 2, 5).words(names), "2 of " + both + " for 5")
+                same(self, UpTo(33, 2, 5).words(names), "up to 2 of " + both + " for 5 each")
+                same(self, bid.words(names),
+                     "one(nothing; any(" + both + " for 5; 2 of " + names[1] + "+" + names[2] + " for 0; one()); "
+                     "up to 3 of " + "+".join(names[:6]) + " for 1000000000 each)")
+
 
 class NothingIsChanged(unittest.TestCase):
     def answers(self, bid):

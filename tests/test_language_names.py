@@ -22,6 +22,7 @@ WALKED = "zip enumerate reversed range".split()
 WALKERS = "list tuple dict sorted sum any all enumerate zip min max".split()
 FREE_VALUES = "count index title find get join lower upper split strip copy add".split()
 OWN_KINDS = (str, int, list, dict, set, bytes)
+CHANGES = "append clear extend insert pop remove reverse setdefault update".split()
 TAKEN = "KeyError ZeroDivisionError StopIteration ValueError LookupError IndexError".split()
 
 
@@ -98,6 +99,17 @@ def faults_of_handlers(tree, own):
                     yield f"L19: line {node.lineno}: a class that is not taken"
 
 
+def faults_of_raises(tree, own):
+    for node in ast.walk(tree):
+        if isinstance(node, ast.Raise) and called(node.exc) not in own:
+            yield f"L19: line {node.lineno}: an error that is not made on the spot, or none of the program's own"
+        if isinstance(node, ast.Raise) and node.cause is not None:
+            handlers = [one.name for one in ast.walk(tree) if isinstance(one, ast.ExceptHandler) and node in one.body]
+            is_none = isinstance(node.cause, ast.Constant) and node.cause.value is None
+            if not handlers or not is_none and getattr(node.cause, "id", None) not in handlers:
+                yield f"L19: line {node.lineno}: from something else"
+
+
 def faults_of_calls(tree):
     parents = parents_in(tree)
     for node in ast.walk(tree):
@@ -141,6 +153,27 @@ def faults_of_walks(tree):
                 yield f"L24: line {node.lineno}: a set that is kept or walked"
 
 
+def walked_names(loop):
+    """The plain names that a loop walks, itself or through enumerate and its like; a copy is something else."""
+    if called(loop.iter) in ("list", "sorted", "tuple", "dict", "range"):
+        return []
+    return [one.id for one in ast.walk(loop.iter) if isinstance(one, ast.Name)]
+
+
+def faults_of_changes(tree):
+    for loop in ast.walk(tree):
+        if isinstance(loop, ast.For):
+            names = walked_names(loop)
+            for node in [one for row in loop.body for one in ast.walk(row)]:
+                changed = None
+                if isinstance(node, ast.Call) and isinstance(node.func, ast.Attribute) and node.func.attr in CHANGES:
+                    changed = node.func.value
+                if isinstance(node, ast.Subscript) and isinstance(node.ctx, ast.Store):
+                    changed = node.value
+                if isinstance(changed, ast.Name) and changed.id in names:
+                    yield f"L23: line {node.lineno}: {changed.id} is changed while it is walked"
+
+
 def classes_in(trees):
     return [node.name for tree in trees for node in ast.walk(tree) if isinstance(node, ast.ClassDef)]
 
@@ -149,8 +182,8 @@ def faults_of(trees):
     own = classes_in(trees)
     yield from faults_of_values(trees)
     for tree in trees:
-        for look in (faults_of_bindings, faults_of_classes, faults_of_calls, faults_of_walks,
-                     lambda one: faults_of_handlers(one, own)):
+        for look in (faults_of_bindings, faults_of_classes, faults_of_calls, faults_of_walks, faults_of_changes,
+                     lambda one: faults_of_handlers(one, own), lambda one: faults_of_raises(one, own)):
             for fault in look(tree):
                 yield f"{ast.get_docstring(tree)} {fault}"
 
@@ -177,6 +210,10 @@ class TheLookItself(unittest.TestCase):
             "def f(x):\n    y = set(x)", "def f(x):\n    for y in set(x):\n        pass",
             "def f():\n    try:\n        f()\n    except TypeError:\n        pass",
             "def f():\n    try:\n        f()\n    except (KeyError, Exception):\n        pass",
+            "def f(x):\n    raise x", "class E(ValueError):\n    pass\ndef f():\n    raise E",
+            "def f():\n    raise ValueError(1)", "class E(ValueError):\n    pass\ndef f(x):\n    raise E(1) from x",
+            "def f(x):\n    for k in x:\n        x.append(k)", "def f(x):\n    for k in x.items():\n        x.pop(k)",
+            "def f(x):\n    for k in enumerate(x):\n        x[0] = k",
         ):
             with self.subTest(text):
                 self.assertNotEqual(list(faults_of([ast.parse(text)])), [])
@@ -195,6 +232,12 @@ class TheLookItself(unittest.TestCase):
             "def f(x):\n    for k, v in x.items():\n        pass", "def f(x):\n    x.count = 1",
             "def f(x):\n    return ', '.join(x.keys())", "def f(x):\n    return isinstance(x, (int, str))",
             "def f(x):\n    try:\n        return x[0]\n    except KeyError:\n        return None",
+            "class E(ValueError):\n    pass\ndef f():\n    try:\n        f()\n    except E as e:\n"
+            "        raise E(1) from e",
+            "class E(ValueError):\n    pass\ndef f():\n    try:\n        f()\n    except E:\n"
+            "        raise E(1) from None",
+            "def f(x):\n    y = []\n    for k in x:\n        y.append(k)",
+            "def f(x):\n    for k in list(x):\n        x.pop(k)",
         ):
             with self.subTest(text):
                 self.assertEqual(list(faults_of([ast.parse(text)])), [])
